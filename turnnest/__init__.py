@@ -1,0 +1,1 @@
+"""Turnnest: words of a row turned about within one another."""
