@@ -2,6 +2,7 @@
 
 import functools
 import itertools
+import random
 
 from turnnest import errors
 
@@ -101,6 +102,44 @@ def comb(deep, last_kind="+"):
 
 def flat(kind, many):
     return (kind, (None,) * many)
+
+
+def other_kind(kind):
+    return "-" if kind == "+" else "+"
+
+
+def mixed_knot(chance, many, kind):
+    """A nest of so many words by chance, of the kind told if it is no word."""
+    if many == 1:
+        return None
+    behinds = sorted(chance.sample(range(1, many), chance.randint(1, min(4, many - 1)))) + [many]
+    firsts = [0] + behinds[:-1]
+    sizes = [behind - first for first, behind in zip(firsts, behinds)]
+    return (kind, tuple(mixed_knot(chance, size, other_kind(kind)) for size in sizes))
+
+
+def great_nests():
+    """Many different nests of 7 to 60 words, the same ones each time."""
+    chance = random.Random(2026)
+    nests = []
+    for many in list(range(7, 61)) + [60] * 40:
+        nests.extend(mixed_knot(chance, many, kind) for kind in "+-")
+    for many in (7, 30, 59, 60):
+        for kind in "+-":
+            nests.extend([flat(kind, many), comb(many - 1, kind), left_comb(many - 1, kind)])
+            nests.append((kind, (flat(other_kind(kind), many - 3), flat(other_kind(kind), 3))))
+            nests.append((kind, (None, flat(other_kind(kind), many - 2), None)))
+    nests.extend((kind, (flat(other_kind(kind), 2),) * 30) for kind in "+-")
+    return nests
+
+
+def left_comb(deep, last_kind="+"):
+    nest = None
+    kind = last_kind
+    for _ in range(deep):
+        nest = (kind, (nest, None))
+        kind = other_kind(kind)
+    return nest
 
 
 def no_nests():
