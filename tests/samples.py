@@ -47,6 +47,15 @@ def no_whole_numbers():
 
 GREAT = 10 ** 699 + 7
 
+# Signs and texts that make no word, by themselves or within one.
+NO_WORDS = (
+    "", "A", "Z", "aB", "Abc", "abcdefghi", "123456789", "a" * 400, "-1", "+", "-", ".", "(", ")", "a.", "a,b", "a_b",
+    "_", "a-b", "!", "a!", "~", "a/b", "a\\b", "'", '"', "`", "@", "[", "{", "|", ":", ";", "=", "?", "*", "#", "$",
+    "&", "^", "%", "a%", "\n", "a\n", "\na", "\t", "a\tb", "\x00", "\x7f", "\xa0", "a\xa0b", "\u2003", "\xe4",
+    "\xdf", "\u0131", "\xaa", "\xb2", "\u0663", "\u2460", "\uff41", "\u4e00", "\U0001d7d9", "a\u0301",
+    "<a", "a>", "<a>", "a<", ">a", "<<", ">>", "<>", "><", "<b", "a<b",
+)
+
 
 def orders_of(many):
     return list(itertools.permutations(range(many)))

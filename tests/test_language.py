@@ -146,6 +146,63 @@ class LanguageTest(unittest.TestCase):
         for where, node in self.walk(ast.Attribute):
             self.assertIn(node.attr, own | METHODS, where)
 
+    def test_classes(self):
+        methods, values = set(), set()
+        for where, node in self.walk(ast.ClassDef):
+            self.assertLessEqual(len(node.bases), 1, where)
+            names = []
+            for inner in node.body:
+                self.assertIsInstance(inner, (ast.FunctionDef, ast.Pass, ast.Expr), where)
+                if isinstance(inner, ast.FunctionDef):
+                    names.append(inner.name)
+            self.assertEqual(len(names), len(set(names)), where)
+            methods |= set(names) - SPECIAL
+        for where, node in self.walk(ast.Attribute):
+            if isinstance(node.ctx, ast.Store):
+                self.assertIsInstance(node.value, ast.Name, where)
+                values.add(node.attr)
+        self.assertEqual(methods & values, set())
+        for name in methods | values:
+            for value in ("", 0, [], (), {}, set(), b""):
+                self.assertFalse(hasattr(value, name), name)
+
+    def test_no_local_is_called_like_an_import_or_class(self):
+        for name, tree in self.trees.items():
+            taken = set()
+            for top in tree.body:
+                if isinstance(top, ast.ImportFrom):
+                    taken |= {alias.name for alias in top.names}
+                elif isinstance(top, ast.ClassDef):
+                    taken.add(top.name)
+            for node in ast.walk(tree):
+                if isinstance(node, ast.arg):
+                    self.assertNotIn(node.arg, taken, f"{name}:{node.lineno}")
+                elif isinstance(node, ast.Name) and isinstance(node.ctx, ast.Store):
+                    self.assertNotIn(node.id, taken, f"{name}:{node.lineno}")
+
+    def test_walked_at_once(self):
+        walked = {"zip", "enumerate", "reversed", "range"}
+        takers = {"list", "tuple", "dict", "sorted", "sum", "any", "all", "enumerate", "zip", "min", "max"}
+        fine = set()
+        for where, node in self.walk(ast.For, ast.comprehension):
+            fine.add(node.iter)
+        for where, node in self.walk(ast.Call):
+            if isinstance(node.func, ast.Name) and node.func.id in takers and node.args:
+                fine.add(node.args[0])
+        for where, node in self.walk(ast.Call):
+            if isinstance(node.func, ast.Name) and node.func.id in walked:
+                self.assertIn(node, fine, where)
+
+    def test_no_two_files_draw_from_one_another(self):
+        drawn = {name: set() for name in self.trees}
+        for where, node in self.walk(ast.ImportFrom):
+            drawn[where.partition(":")[0]].add(node.module.partition(".")[2] + ".py")
+        while drawn:
+            free = [name for name, files in drawn.items() if not files & set(drawn)]
+            self.assertTrue(free, drawn)
+            for name in free:
+                drawn.pop(name)
+
 
 if __name__ == "__main__":
     unittest.main()

@@ -38,6 +38,10 @@ def must_be_nest(thing):
         raise NoNest("this is no nest")
 
 
+def is_of_kind(nest, kind):
+    return nest is not None and nest[0] == kind
+
+
 def seen(nest):
     must_be_nest(nest)
     return order_of(nest)
@@ -61,6 +65,17 @@ def count_words(nest):
     if nest is None:
         return 1
     return sum([count_words(part) for part in nest[1]])
+
+
+def shared_out(nest, things):
+    """For each part of the nest those things that are its words', of one for each word of the nest."""
+    shares = []
+    first = 0
+    for part in nest[1]:
+        behind = first + count_words(part)
+        shares.append(things[first:behind])
+        first = behind
+    return shares
 
 
 def depth(nest):

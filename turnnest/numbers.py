@@ -1,7 +1,7 @@
 """How many nests there are, and their numbers."""
 
 from turnnest.errors import NoNumber
-from turnnest.nests import count_words, must_be_nest
+from turnnest.nests import count_words, is_of_kind, must_be_nest
 
 
 def how_many(many):
@@ -41,7 +41,7 @@ def number_of(nest):
     many = count_words(nest)
     counts = kind_counts(many)
     number = number_in_kind(counts, nest)
-    if nest is not None and nest[0] == "-":
+    if is_of_kind(nest, "-"):
         return counts[many] + number
     return number
 

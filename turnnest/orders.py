@@ -26,26 +26,34 @@ def mirror(order):
 
 
 def left_of(order, words):
-    if len(words) == 0:
-        raise NoWords("at least one word is to be left")
-    if not are_different_below(words, len(order)):
-        raise NoWords("the words left are different numbers of the order's words")
+    must_be_words(words, len(order))
     new_numbers = {}
     for number, word in enumerate(sorted(words)):
         new_numbers[word] = number
     return tuple([new_numbers[word] for word in order if word in new_numbers])
 
 
+def must_be_words(words, many):
+    if len(words) == 0:
+        raise NoWords("at least one word is to be left")
+    if not are_different_below(words, many):
+        raise NoWords("the words left are different numbers of the row's words")
+
+
 def put_together(order, orders):
-    if len(orders) != len(order):
-        raise NoOrder("there is to be one order for each word")
-    if sum([len(inner) for inner in orders]) > MOST_WORDS:
-        raise NoOrder("more than 60 words would come")
+    must_fit([len(inner) for inner in orders], len(order))
     firsts = first_numbers(orders)
     together = []
     for word in order:
         together.extend([firsts[word] + number for number in orders[word]])
     return tuple(together)
+
+
+def must_fit(sizes, many):
+    if len(sizes) != many:
+        raise NoOrder("there is to be just one for each word")
+    if sum(sizes) > MOST_WORDS:
+        raise NoOrder("more than 60 words would come")
 
 
 def first_numbers(orders):

@@ -1,7 +1,7 @@
 """Turns: stretches of a row that are turned about, and those of a nest."""
 
 from turnnest.errors import NoTurn
-from turnnest.nests import count_words, must_be_nest
+from turnnest.nests import count_words, is_of_kind, must_be_nest
 from turnnest.wholes import is_whole
 
 
@@ -54,7 +54,7 @@ def turns_of(nest):
     must_be_nest(nest)
     turns = knot_turns(nest, 0)
     # What is of kind + as a whole is seen as it comes: nothing is turned about round it.
-    if nest is not None and nest[0] == "+":
+    if is_of_kind(nest, "+"):
         return turns[1:]
     return turns
 
